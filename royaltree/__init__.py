@@ -1,0 +1,1 @@
+"""Royaltree: works made from works, and whose each coin is."""
