@@ -25,27 +25,43 @@ def fraction_of(top, below):
     return (top // divisor, below // divisor)
 
 
+def plus(one, other):
+    """One and other together."""
+    top, below = one
+    other_top, other_below = other
+    # Both are in lowest terms, so only what their belows share can come out of the sum. Where one of them is long
+    # and the other short, as sums of many coins come to be, no divisor of two long numbers is looked for.
+    shared = greatest_divisor(below, other_below)
+    together = top * (other_below // shared) + other_top * (below // shared)
+    divisor = greatest_divisor(together, shared)
+    return (together // divisor, below // shared * (other_below // divisor))
+
+
 def sum_of(parts):
     """All fractions of a list together; (0, 1) of none."""
-    top, below = NOTHING
-    for part_top, part_below in parts:
-        top, below = fraction_of(top * part_below + part_top * below, below * part_below)
-    return (top, below)
+    together = NOTHING
+    for part in parts:
+        together = plus(together, part)
+    return together
 
 
 def taken_from(one, other):
     """What is left of other when one is taken from it."""
-    return fraction_of(other[0] * one[1] - one[0] * other[1], other[1] * one[1])
+    return plus(other, (-one[0], one[1]))
 
 
 def product_of(one, other):
     """One times other."""
-    return fraction_of(one[0] * other[0], one[1] * other[1])
+    # As with sums, of fractions in lowest terms only a top and the other's below have something to share.
+    first = greatest_divisor(one[0], other[1])
+    second = greatest_divisor(other[0], one[1])
+    return (one[0] // first * (other[0] // second), one[1] // second * (other[1] // first))
 
 
 def by_part(one, other):
     """One by other; other is not 0."""
-    return fraction_of(one[0] * other[1], one[1] * other[0])
+    top, below = other
+    return product_of(one, (below, top) if top > 0 else (-below, -top))
 
 
 def is_less(one, other):

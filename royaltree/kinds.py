@@ -6,11 +6,14 @@ LONGEST_NAME = 8
 GREATEST_BELOW = 60
 
 
+def is_number(thing):
+    """Whether a thing is a number; True and False are none."""
+    return isinstance(thing, int) and not isinstance(thing, bool)
+
+
 def is_number_from(thing, least, most):
-    """Whether a thing is a number from least to most; True and False are none."""
-    if not isinstance(thing, int) or isinstance(thing, bool):
-        return False
-    return least <= thing <= most
+    """Whether a thing is a number from least to most."""
+    return is_number(thing) and least <= thing <= most
 
 
 def is_tuple_of(thing, many):
@@ -25,11 +28,17 @@ def is_name(thing):
     return all(["a" <= sign <= "z" for sign in thing])
 
 
-def is_part(thing):
-    """Whether a thing is a fraction above 0, at most 1, its below at most 60."""
-    if not is_tuple_of(thing, 2):
+def is_fraction(thing):
+    """Whether a thing is a fraction, of numbers of any size, in lowest terms."""
+    if not is_tuple_of(thing, 2) or not all([is_number(number) for number in thing]):
         return False
     top, below = thing
-    if not is_number_from(below, 1, GREATEST_BELOW) or not is_number_from(top, 1, below):
+    return below >= 1 and greatest_divisor(top, below) == 1
+
+
+def is_part(thing):
+    """Whether a thing is a fraction above 0, at most 1, its below at most 60."""
+    if not is_fraction(thing):
         return False
-    return greatest_divisor(top, below) == 1
+    top, below = thing
+    return 1 <= top <= below <= GREATEST_BELOW

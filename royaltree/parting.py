@@ -118,13 +118,18 @@ def all_shares(rows, unit):
     return by_coin + by_left + by_length, rest
 
 
-def parts_at(rows, unit):
-    """How much of a coin for the unit goes where: pairs (name, fraction), names rising, none of 0."""
-    shares, rest = all_shares(rows, unit)
+def gathered(shares):
+    """Pairs (name, fraction) put together by names: names rising, each once, none of 0."""
     parts = {}
     for name, share in shares:
         parts[name] = sum_of([parts.get(name, NOTHING), share])
     return [(name, part) for name, part in sorted(parts.items()) if part != NOTHING]
+
+
+def parts_at(rows, unit):
+    """How much of a coin for the unit goes where: pairs (name, fraction), names rising, none of 0."""
+    shares, rest = all_shares(rows, unit)
+    return gathered(shares)
 
 
 def waits_at(rows, unit):

@@ -125,6 +125,16 @@ class TestForms(unittest.TestCase):
             read = {node.id for node in ast.walk(tree) if isinstance(node, ast.Name)}
             self.assertEqual(read - bound - OWN_NAMES, set(), name)
 
+    def test_classes_and_imports_keep_their_names(self):
+        for name, tree in TREES.items():
+            drawn = {alias.name for row in tree.body if isinstance(row, ast.ImportFrom) for alias in row.names}
+            classes = {row.name for row in tree.body if isinstance(row, ast.ClassDef)}
+            given = {node.arg for node in ast.walk(tree) if isinstance(node, ast.arg)}
+            given |= {node.id for node in ast.walk(tree)
+                      if isinstance(node, ast.Name) and isinstance(node.ctx, ast.Store)}
+            given |= {node.name for node in ast.walk(tree) if isinstance(node, ast.FunctionDef)}
+            self.assertEqual(given & (drawn | classes), set(), name)
+
     def test_methods_and_values(self):
         given = {node.attr for name, node in nodes_of(ast.Attribute) if isinstance(node.ctx, ast.Store)}
         methods = {row.name for name, node in nodes_of(ast.ClassDef) for row in node.body

@@ -5,6 +5,7 @@ import random
 import unittest
 from fractions import Fraction
 
+from reckoning import drawn_rows, wanted_parts
 from royaltree.parting import is_rows, parts_at, too_much, unit_stretches, waits_at
 
 STEPS = ("steps", "bob", ((10, (1, 10)), (20, (1, 5)), (30, (1, 4)), (None, (1, 20))))
@@ -17,56 +18,6 @@ MIXED = (
     ("left", "bob", (1, 3)),
     ("of", "ada", (1, 10)),
 )
-
-
-def pair(one):
-    return (one.numerator, one.denominator)
-
-
-def wanted_parts(rows, unit):
-    """Promise 4 read once more with Python's own fractions: parts by name, and what waits."""
-    parts = {name: Fraction(0) for kind, name, told in rows}
-    rest = Fraction(1)
-    for kind, name, told in rows:
-        if kind == "steps":
-            told = next(part for upto, part in told if upto is None or unit < upto)
-        if kind in ("of", "steps"):
-            parts[name] += Fraction(*told)
-            rest -= Fraction(*told)
-    for kind, name, told in rows:
-        if kind == "left":
-            parts[name] += rest * Fraction(*told)
-            rest *= 1 - Fraction(*told)
-    together = sum(told for kind, name, told in rows if kind == "length")
-    for kind, name, told in rows:
-        if kind == "length":
-            parts[name] += rest * Fraction(told, together)
-    told_parts = [(name, pair(parts[name])) for name in sorted(parts) if parts[name] != 0]
-    return told_parts, pair(Fraction(0) if together else rest)
-
-
-def drawn_part(draw, most=60):
-    below = draw.randint(1, most)
-    return pair(Fraction(draw.randint(1, below), below))
-
-
-def drawn_rates(draw):
-    uptos = sorted(draw.sample(range(1, 40), draw.randint(1, 3)))
-    return tuple((upto, pair(Fraction(1, draw.randint(3, 60)))) for upto in uptos + [None])
-
-
-def drawn_rows(draw):
-    """Some rows, mostly not too much, of few names so that some come several times."""
-    rows = []
-    for turn in range(draw.randint(0, 8)):
-        name = draw.choice(("ada", "bob", "cy", "a", "zed"))
-        kind = draw.choice(("of", "steps", "left", "length"))
-        if kind == "left" and sum(row[0] == "left" for row in rows) == 3:
-            kind = "length"
-        told = {"of": pair(Fraction(draw.randint(1, 5), draw.randint(5, 60))), "steps": drawn_rates(draw),
-                "left": drawn_part(draw), "length": draw.randint(1, 1000)}[kind]
-        rows.append((kind, name, told))
-    return tuple(rows)
 
 
 class TestTooMuch(unittest.TestCase):
