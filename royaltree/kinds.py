@@ -38,7 +38,9 @@ def is_fraction(thing):
 
 def is_part(thing):
     """Whether a thing is a fraction above 0, at most 1, its below at most 60."""
-    if not is_fraction(thing):
+    if not is_tuple_of(thing, 2):
         return False
     top, below = thing
-    return 1 <= top <= below <= GREATEST_BELOW
+    if not is_number_from(below, 1, GREATEST_BELOW) or not is_number_from(top, 1, below):
+        return False
+    return greatest_divisor(top, below) == 1
