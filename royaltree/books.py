@@ -30,6 +30,11 @@ def lacks_units(rows, work):
     return False
 
 
+def rows_without(rows, name):
+    """A work's rows but those that name this one, in their order."""
+    return tuple([row for row in rows if row[1] != name])
+
+
 class Book:
     """What is told of people, works, currencies, money and debts, in whatever order of days."""
 
@@ -191,6 +196,13 @@ class Book:
     def debt_list(self):
         """All debts (kind, day, person, coins), by days."""
         return by_days(self.debts)
+
+    def drop_work(self, work):
+        """Nothing is told of the work any longer: its rows, maker and money go, and all rows that name it."""
+        self.need_work(work)
+        self.rows = {other: rows_without(rows, work) for other, rows in self.rows.items() if other != work}
+        self.makers = {other: known for other, known in self.makers.items() if other != work}
+        self.money = [row for row in self.money if row[2] != work]
 
     def twin_book(self):
         """A Book of its own of which the same was told."""

@@ -62,11 +62,15 @@ class Purse:
         # What is kept stands by the half in which it came.
         self.kept = {}
         self.owed = {kind: 0 for kind in DEBT_KINDS}
-        self.worked = 0
-        self.paid = 0
+        # By halves, too, stands what statements tell; halves in which nothing was done are not there.
+        self.earned = {}
+        self.freed = {}
+        self.worked = {}
+        self.paid = {}
 
     def take_in(self, half, coins):
         """Coins come to the person in this half; below 0, they go."""
+        self.earned[half] = sum_of([self.earned.get(half, NOTHING), coins])
         if is_less(coins, NOTHING):
             self.give_back(taken_from(coins, NOTHING))
         else:
@@ -89,25 +93,31 @@ class Purse:
 
     def end_half(self, half):
         """What was kept ahead of this half is open, and the whole coins of what is open are spent."""
-        self.ready = sum_of([self.ready] + [coins for old, coins in self.kept.items() if old < half])
+        self.freed[half] = sum_of([coins for old, coins in self.kept.items() if old < half])
+        self.ready = sum_of([self.ready, self.freed[half]])
         self.kept = {old: coins for old, coins in self.kept.items() if old >= half}
         coins = whole_of(self.ready)
         if coins >= 1:
             self.ready = taken_from((coins, 1), self.ready)
-            self.spend(coins)
+            self.spend(half, coins)
 
-    def spend(self, coins):
+    def spend(self, half, coins):
         """Whole coins work off what is owed, and the rest of them is paid."""
+        rest = coins
         for kind in DEBT_KINDS:
-            worked = min(coins, self.owed[kind])
+            worked = min(rest, self.owed[kind])
             self.owed[kind] -= worked
-            self.worked += worked
-            coins -= worked
-        self.paid += coins
+            rest -= worked
+        self.worked[half] = coins - rest
+        self.paid[half] = rest
 
     def all_kept(self):
         """What is kept of all halves together."""
         return sum_of(list(self.kept.values()))
+
+    def all_spent(self):
+        """What was worked off and paid in all halves together."""
+        return sum(self.worked.values()) + sum(self.paid.values())
 
 
 class Ledger:
@@ -179,16 +189,22 @@ class Ledger:
 
     def worked_of(self, person):
         """How many coins the person has worked off."""
-        return self.purse_of(person).worked
+        return sum(self.purse_of(person).worked.values())
 
     def paid_of(self, person):
         """How many coins were paid to the person."""
-        return self.purse_of(person).paid
+        return sum(self.purse_of(person).paid.values())
 
     def due_of(self, person):
         """All that came to the person: what is open, kept, worked off and paid."""
         purse = self.purse_of(person)
-        return sum_of([purse.ready, purse.all_kept(), (purse.worked + purse.paid, 1)])
+        return sum_of([purse.ready, purse.all_kept(), (purse.all_spent(), 1)])
+
+    def done_in(self, person, half):
+        """What came to the person, was opened, worked off and paid in one half, as a tuple."""
+        purse = self.purse_of(person)
+        return (purse.earned.get(half, NOTHING), purse.freed.get(half, NOTHING),
+                purse.worked.get(half, 0), purse.paid.get(half, 0))
 
     def waits_of(self, work):
         """What waits at the work."""

@@ -136,6 +136,8 @@ class WantedLedger:
         self.debt = {person: {"wrong": 0, "advance": 0} for person in self.keep}
         self.worked = {person: 0 for person in self.keep}
         self.paid = {person: 0 for person in self.keep}
+        self.earned = {person: Fraction(0) for person in self.keep}
+        self.freed = {person: Fraction(0) for person in self.keep}
         self.waits = {work: Fraction(0) for work in book.work_names()}
         self.came = Fraction(0)
         for day in range(last_day + 1):
@@ -165,6 +167,8 @@ class WantedLedger:
                     self.come(name, credit)
 
     def come(self, name, coins):
+        if name in self.earned:
+            self.earned[name] += coins
         if name in self.waits:
             self.waits[name] += coins
         elif coins > 0:
@@ -181,6 +185,7 @@ class WantedLedger:
     def end_half(self, person):
         for half in list(self.kept[person]):
             if half < self.half:
+                self.freed[person] += self.kept[person][half]
                 self.open[person] += self.kept[person].pop(half)
         if self.open[person] >= 1:
             coins = self.open[person].numerator // self.open[person].denominator
@@ -207,6 +212,16 @@ class WantedLedger:
             "waits_of": {work: pair(coins) for work, coins in self.waits.items()},
             "came_in": pair(self.came),
         }
+
+
+def wanted_statements(book, half):
+    """Promise 14: what all days up to the half's end came to, less what they came to ahead of it."""
+    ahead, behind = (WantedLedger(book, end * book.half_days() - 1) for end in (half, half + 1))
+    return [(person, pair(behind.earned[person] - ahead.earned[person]),
+             pair(behind.freed[person] - ahead.freed[person]), behind.worked[person] - ahead.worked[person],
+             behind.paid[person] - ahead.paid[person], behind.told()["open_of"][person],
+             behind.told()["kept_of"][person], behind.debt[person]["wrong"], behind.debt[person]["advance"])
+            for person in sorted(behind.keep)]
 
 
 def told_by(ledger, people, works):
@@ -323,3 +338,14 @@ def draw_money(draw, book, day, whole_parts):
 
 def draw_debt(draw, book, day, whole_parts):
     book.put_debt(draw.choice(("advance", "wrong")), day, draw.choice(PEOPLE), draw.randint(1, 90))
+
+
+def drawn_ending_book(draw, most_days=40):
+    """A drawn Book of which no row of money, and no maker, is endless."""
+    while True:
+        book = drawn_book(draw, most_days, whole_parts=0)
+        try:
+            WantedLedger(book, most_days)
+        except WantedEndless:
+            continue
+        return book

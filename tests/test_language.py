@@ -115,6 +115,41 @@ class TestForms(unittest.TestCase):
             for name in free:
                 del draws[name]
 
+    def test_a_files_top(self):
+        for name, tree in TREES.items():
+            given = []
+            for at, row in enumerate(tree.body):
+                if isinstance(row, ast.Expr):
+                    self.assertTrue(at == 0 and isinstance(row.value.value, str), name)
+                elif isinstance(row, ast.ImportFrom):
+                    given += [alias.name for alias in row.names]
+                elif isinstance(row, ast.Assign):
+                    given += [target.id for target in row.targets]
+                    for node in ast.walk(row.value):
+                        self.assertNotIsInstance(node, (ast.Call, ast.Lambda, ast.Set, ast.ListComp, ast.DictComp), name)
+                        if node != row.value:
+                            self.assertNotIsInstance(node, (ast.List, ast.Dict), name)
+                        if isinstance(node, ast.Name):
+                            self.assertIn(node.id, given, name)
+                else:
+                    self.assertIsInstance(row, (ast.FunctionDef, ast.ClassDef), name)
+                    given.append(row.name)
+            self.assertEqual(len(given), len(set(given)), name)
+
+    def test_sets_are_not_walked(self):
+        for name, node in nodes_of(ast.For, ast.comprehension):
+            walked = node.iter
+            is_set = isinstance(walked, (ast.Set, ast.SetComp))
+            is_set |= isinstance(walked, ast.Call) and getattr(walked.func, "id", "") in ("set", "frozenset")
+            self.assertFalse(is_set, name)
+
+    def test_errors_are_taken_by_the_programs_own_names(self):
+        own = {row.name for row in TREES["errors.py"].body if isinstance(row, ast.ClassDef)}
+        for name, node in nodes_of(ast.ExceptHandler):
+            self.assertIn(node.type.id, own, name)
+        for name, node in nodes_of(ast.Raise):
+            self.assertIn(node.exc.func.id, own, name)
+
     def test_names(self):
         python_names = set(dir(__builtins__) if not isinstance(__builtins__, dict) else __builtins__)
         for name, tree in TREES.items():

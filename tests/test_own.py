@@ -1,4 +1,4 @@
-"""Promise 2, of books, flows and ledgers: what is told is the asker's own, and what is handed in is left alone."""
+"""Promise 2, over the whole program: what is told is the asker's own, and what is handed in is left alone."""
 
 import copy
 import random
@@ -9,6 +9,9 @@ from royaltree.books import Book
 from royaltree.flowcheck import shows_flow
 from royaltree.flows import flow_list, leads_from, share_list, stays_at
 from royaltree.ledger import Ledger, credit_list
+from royaltree.statements import shows_statements, statement_list
+from royaltree.strikes import strike_list, struck_book
+from royaltree.texts import book_of, book_text
 
 COUNTS = {"ode": 7, "song": 0}
 
@@ -51,6 +54,13 @@ ASKS = {
     "share_list alone": lambda book: share_list(book, "tune", 9, COUNTS),
     "credit_list": lambda book: credit_list(book, 1),
     "credit_list back": lambda book: credit_list(book, 2),
+    "statement_list": lambda book: statement_list(book, 1),
+    "statement_list nothing": lambda book: statement_list(book, 9999),
+    "strike_list": lambda book: strike_list(book, "ode", 9),
+    "strike_list none": lambda book: strike_list(book, "tune", 9),
+    "struck_book money": lambda book: struck_book(book, "song").money_list(),
+    "book_of people": lambda book: book_of(book_text(book)).person_names(),
+    "book_of money": lambda book: book_of(book_text(book)).money_list(),
 }
 
 
@@ -153,6 +163,16 @@ class TestHandedIn(unittest.TestCase):
         flows.pop()
         self.assertIs(shows_flow(book, "ode", 9, COUNTS, flows), False)
 
+    def test_checked_statements_stay_as_they_were(self):
+        book = told_book()
+        one, other = statement_list(book, 0), statement_list(book, 1)
+        kept = copy.deepcopy((one, other))
+        self.assertIs(shows_statements(one, other), True)
+        self.assertEqual((one, other), kept)
+        other.reverse()
+        self.assertIs(shows_statements(one, other), False)
+        self.assertEqual(other, kept[1][::-1])
+
     def test_asks_leave_the_book_as_it_was(self):
         draw = random.Random(71)
         for turn in range(20):
@@ -164,6 +184,12 @@ class TestHandedIn(unittest.TestCase):
             for name in PEOPLE + WORKS:
                 shows_flow(book, name, 9, COUNTS, flow_list(book, name, 9, COUNTS))
                 share_list(book, name, 9, COUNTS)
+            for half in (0, 3, 9999):
+                statement_list(book, half)
+            for work in WORKS:
+                struck_book(book, work)
+                strike_list(book, work, 0)
+            book_text(book)
             self.assertEqual(told_of(book), wanted)
 
     def test_what_was_told_may_be_handed_in_again(self):
